@@ -1,0 +1,1 @@
+"""Nightwatch: errands in groups, done row by row by a told clock and order."""
