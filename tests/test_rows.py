@@ -107,6 +107,17 @@ class ValueTests(unittest.TestCase):
         self.check(OTHER_KINDS, False)
 
 
+class UnchangedTests(unittest.TestCase):
+    def test_what_is_handed_in_is_not_changed(self):
+        letters = ["a", "b", ["c"]]
+        fields = {"a": [1], "b": True}
+        for ask in (is_name, is_value):
+            ask(letters)
+            ask(fields)
+        self.assertEqual(letters, ["a", "b", ["c"]])
+        self.assertEqual(fields, {"a": [1], "b": True})
+
+
 RING = ("ring", 2, "gate")
 WAIT = ("wait", 3, 1)
 GIVE = ("give", 4, 7)
