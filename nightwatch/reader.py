@@ -3,7 +3,7 @@
 from nightwatch.errors import BadRow
 from nightwatch.rows import is_block_word, is_name, is_value
 
-# The words of a form stand for themselves, but for NAME, VALUE and N.
+# The words of a form stand for themselves, but for NAME, VALUE, N and ROUNDS.
 FORMS = (
     "errand NAME",
     "wait N",
@@ -28,12 +28,11 @@ FORMS = (
     "do",
     "last",
     "when NAME VALUE",
-    "repeat N",
+    "repeat ROUNDS",
     "end",
 )
 
-# The greatest N of a line, by the line's first word; the least is 1 for all.
-GREATEST = {"wait": 99, "begin": 99, "limit": 99, "repeat": 9}
+GREATEST = {"N": 99, "ROUNDS": 9}
 
 # The word behind which a block's other rows stand.
 TURNS = {"limit": "late", "try": "but", "do": "last"}
@@ -45,16 +44,16 @@ MOST_DEEP = 20
 
 def number_of(word):
     # No number of a row has more figures, so longer words are not counted out.
-    if len(word) > MOST_FIGURES or not all(["0" <= sign <= "9" for sign in word]):
+    if not 1 <= len(word) <= MOST_FIGURES or not all(["0" <= sign <= "9" for sign in word]):
         return None
     if word.startswith("0") and word != "0":
         return None
     return int(word)
 
 
-def bounded(word, greatest):
+def bounded(word, least, greatest):
     number = number_of(word)
-    if number is None or not 1 <= number <= greatest:
+    if number is None or not least <= number <= greatest:
         return None
     return number
 
@@ -65,9 +64,9 @@ def value_of(word):
     return value if is_value(value) else None
 
 
-def field_of(slot, word, greatest):
-    if slot == "N":
-        return bounded(word, greatest)
+def field_of(slot, word):
+    if slot in GREATEST:
+        return bounded(word, 1, GREATEST[slot])
     if slot == "VALUE":
         return value_of(word)
     if slot == "NAME":
@@ -75,17 +74,17 @@ def field_of(slot, word, greatest):
     return word if word == slot else None
 
 
-def fitted(slots, words):
+def fitted(slots, words, field_at):
     if len(slots) != len(words):
         return None
-    greatest = GREATEST.get(words[0], 0)
-    fields = [field_of(slot, word, greatest) for slot, word in zip(slots, words)]
+    fields = [field_at(slot, word) for slot, word in zip(slots, words)]
     return None if None in fields else fields
 
 
-def fields_of(words):
-    for form in FORMS:
-        fields = fitted(form.split(" "), words)
+# The fields of words by the first form that they have, each as field_at tells it of its slot; None without one.
+def first_fit(forms, words, field_at):
+    for form in forms:
+        fields = fitted(form.split(" "), words, field_at)
         if fields is not None:
             return fields
     return None
@@ -181,7 +180,7 @@ def read(text):
         words = [word for word in line.split(" ") if word != ""]
         if words == []:
             continue
-        fields = fields_of(words)
+        fields = first_fit(FORMS, words, field_of)
         if fields is None or not reading.allows(fields[0]):
             raise BadRow(number)
         reading.put_line(fields, number)

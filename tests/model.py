@@ -264,6 +264,266 @@ class ModelMachine:
             raise held
 
 
+# A night by another way: whoever waits is found anew each time, by what its errand's machine waits at and since when.
+class ModelNight:
+    def __init__(self, program, events=(), picks=()):
+        self.program = {errand[2]: errand[3] for errand in program}
+        self.events, self.picks = list(events), list(picks)
+        self.tick, self.count = 0, 0
+        self.errands, self.groups, self.letters, self.dues = [], {}, [], []
+        self.ready, self.rows, self.marked, self.woken = [], [], [], []
+        self.begin(program[-1][2], None, None, None)
+
+    def begin(self, name, owner, scope, label):
+        self.errands.append({"name": name, "machine": ModelMachine(self.program[name]), "owner": owner,
+                             "scope": scope, "label": label, "since": 0, "asks": None})
+        self.wake(len(self.errands) - 1)
+        return len(self.errands) - 1
+
+    def machine(self, number):
+        return self.errands[number]["machine"]
+
+    def wake(self, number):
+        self.ready.append(number)
+        self.woken.append(number)
+
+    def next_count(self):
+        self.count += 1
+        return self.count
+
+    def outcome(self, number):
+        return self.machine(number).outcome()
+
+    # Who may do the next step.
+    def choices(self):
+        event = [self.events[0][0]] if self.events else []
+        due = [min(self.dues)[0]] if self.dues else []
+        if self.outcome(0) is not None:
+            return []
+        if event and event[0] <= self.tick:
+            return ["outside"]
+        if due == [self.tick]:
+            return ["clock"]
+        if self.ready:
+            return list(self.ready)
+        first = min([(time, 0, "outside") for time in event] + [(time, 1, "clock") for time in due], default=None)
+        return [first[2]] if first else []
+
+    def step(self):
+        some = self.choices()
+        if not some:
+            return None
+        if type(some[0]) is str:
+            return self.does(some[0])
+        return self.does(some[(self.picks.pop(0) if self.picks else 0) % len(some)])
+
+    def run(self):
+        while self.step() is not None:
+            pass
+        return list(self.rows)
+
+    def does(self, who):
+        self.marked, self.woken = [], []
+        if who == "outside":
+            deed = self.outside()
+        elif who == "clock":
+            deed = self.clock()
+        else:
+            deed = self.errand(who)
+        self.rows.append((self.tick, who, deed, tuple(self.marked), tuple(self.woken)))
+        return self.rows[-1]
+
+    def outside(self):
+        event = self.events.pop(0)
+        self.tick = max(self.tick, event[0])
+        if event[1] == "off":
+            if event[2] < len(self.errands):
+                self.mark(event[2], 0, "off")
+        else:
+            self.ring_or_send(event[1:])
+        return event[1:]
+
+    def clock(self):
+        due = min(self.dues)
+        self.dues.remove(due)
+        self.tick = due[0]
+        if due[3] == "wait":
+            self.serve(due[2])
+            return ("woke", due[2])
+        self.mark(due[2], due[3], "late")
+        return ("late", due[2], due[3])
+
+    def errand(self, who):
+        self.ready.remove(who)
+        want = self.machine(who).step()
+        self.errands[who]["since"] = self.next_count()
+        open_ones = self.machine(who).scopes() if self.outcome(who) is None else []
+        self.dues = [due for due in self.dues if due[2] != who or due[3] == "wait" or due[3] in open_ones]
+        self.effect(who, want)
+        if self.machine(who).waiting() is None and self.outcome(who) is None:
+            self.ready.append(who)
+        return want
+
+    # What comes by a want.
+    def ring_or_send(self, deed):
+        word, name = ("hear", deed[1]) if deed[0] == "ring" else ("take", deed[1])
+        waiting = sorted([(one["since"], number) for number, one in enumerate(self.errands)
+                          if one["machine"].waiting() and one["machine"].waiting()[:3:2] == (word, name)])
+        if deed[0] == "ring":
+            for since, number in waiting:
+                self.serve(number)
+        elif waiting:
+            self.serve(waiting[0][1], deed[2])
+        else:
+            self.letters.append((name, deed[2]))
+
+    def serve(self, number, value=None):
+        self.machine(number).go(value)
+        self.errands[number]["asks"] = None
+        self.wake(number)
+
+    def due(self, ticks, number, what):
+        self.dues.append((self.tick + ticks, self.next_count(), number, what))
+
+    def effect(self, who, want):
+        word, machine = want[0], self.machine(who)
+        if word in ("ring", "send"):
+            self.ring_or_send((word,) + want[2:])
+        elif word == "wait":
+            self.due(want[2], who, "wait")
+        elif word == "limit":
+            self.due(want[3], who, want[2])
+        elif word == "take":
+            there = [letter for letter in self.letters if letter[0] == want[2]]
+            if there:
+                self.letters.remove(there[0])
+                machine.go(there[0][1])
+        elif word == "ask":
+            self.ask(who, want[2])
+        elif word == "begin":
+            number = self.begin(want[3], who, want[4], want[2])
+            if want[5]:
+                self.due(want[5], number, 0)
+            if self.groups[who, want[4]]["off"]:
+                self.mark(number, 0, "off")
+        elif word == "off" and isinstance(want[2], int):
+            self.call_off(who, want[2])
+        elif word == "off":
+            number = self.newest(who, want[2])
+            if number is not None:
+                self.mark(number, 0, "off")
+        elif word == "group":
+            self.groups[who, want[2]] = {"off": False, "faults": ()}
+        elif word == "left":
+            self.groups.pop((who, want[2]))
+        elif word in ("join", "halt"):
+            if word == "halt":
+                self.groups[who, want[2]]["faults"] += want[3]
+                self.call_off(who, want[2])
+            self.tell_owner(who, want[2])
+        elif word == "ended":
+            self.ended(who, want[2])
+
+    def alive(self, owner, scope):
+        return [number for number, one in enumerate(self.errands)
+                if (one["owner"], one["scope"]) == (owner, scope) and one["machine"].outcome() is None]
+
+    def newest(self, owner, label):
+        told = [number for number, one in enumerate(self.errands) if one["owner"] == owner and one["label"] == label
+                and (owner, one["scope"]) in self.groups]
+        return told[-1] if told else None
+
+    def told(self, number):
+        outcome = self.outcome(number)
+        return {"value": lambda: outcome[1], "faults": lambda: ":" + outcome[1][0]}.get(
+            outcome[0], lambda: ":" + outcome[0])()
+
+    def ask(self, who, label):
+        number = self.newest(who, label)
+        if number is None:
+            self.machine(who).raised("nobody")
+        elif self.outcome(number) is not None:
+            self.machine(who).go(self.told(number))
+        else:
+            self.errands[who]["asks"] = number
+
+    def call_off(self, owner, scope):
+        group = self.groups[owner, scope]
+        if not group["off"]:
+            group["off"] = True
+            self.mark(owner, scope, "off")
+            for number in self.alive(owner, scope):
+                self.mark(number, 0, "off")
+
+    def mark(self, number, scope, word):
+        machine = self.machine(number)
+        if machine.outcome() is None and scope in machine.scopes() and not machine.is_marked(scope):
+            machine.mark(scope, word)
+            self.marked.append((number, scope, word))
+            if machine.strikable():
+                self.dues = [due for due in self.dues if due[2:] != (number, "wait")]
+                self.errands[number]["asks"] = None
+                machine.strike()
+                self.wake(number)
+
+    def tell_owner(self, owner, scope):
+        """Whether nobody of the group is alive; then its owner is told its faults."""
+        if self.alive(owner, scope):
+            return False
+        self.machine(owner).joined(self.groups[owner, scope]["faults"])
+        return True
+
+    def ended(self, who, outcome):
+        one = self.errands[who]
+        self.dues = [due for due in self.dues if due[2] != who]
+        for number, other in enumerate(self.errands):
+            if other["asks"] == who:
+                self.serve(number, self.told(who))
+        if one["owner"] is None:
+            return
+        if outcome[0] == "faults":
+            self.groups[one["owner"], one["scope"]]["faults"] += outcome[1]
+            self.call_off(one["owner"], one["scope"])
+        want = self.machine(one["owner"]).waiting()
+        if want and want[0] in ("join", "halt") and want[2] == one["scope"]:
+            if self.tell_owner(one["owner"], one["scope"]):
+                self.wake(one["owner"])
+
+    # What is told of a night.
+    def tree(self, who=0):
+        scopes = sorted([scope for owner, scope in self.groups if owner == who])
+        return (who, tuple([(scope, self.groups[who, scope]["off"],
+                             tuple([self.tree(number) for number in self.alive(who, scope)])) for scope in scopes]))
+
+    def all_pairs(self, pairs):
+        told = set(pairs)
+        for word, name in pairs:
+            if word == "begin":
+                told |= self.all_pairs(pairs_in(self.program[name]))
+        return told
+
+    def knot(self):
+        waits = {}
+        for number, one in enumerate(self.errands):
+            want = one["machine"].waiting()
+            if want is not None and want[0] != "wait":
+                pair = ({"hear": "ring", "take": "send"}.get(want[0]), want[2])
+                waits[number] = [other for other in range(len(self.errands))
+                                 if pair in self.all_pairs(self.machine(other).might())]
+                if want[0] == "ask":
+                    waits[number] = [one["asks"]]
+                if want[0] in ("join", "halt"):
+                    waits[number] = self.alive(number, want[2])
+        members = set(waits)
+        while [one for one in members if not waits[one] or not set(waits[one]) <= members]:
+            members = set([one for one in members if waits[one] and set(waits[one]) <= members])
+        way, one = [], min(members, default=None)
+        while members and one not in way:
+            way.append(one)
+            one = min(waits[one])
+        return (sorted(members), way[way.index(one):] if members else [], sorted(set(waits) - members))
+
+
 # Rows and programs made by a fixed row of chances; names are few, so that errands meet one another.
 class Maker:
     bells, boxes, names, faults = ("bell", "chime"), ("post", "desk"), ("x", "y"), ("lost", "torn")
@@ -355,13 +615,14 @@ class Maker:
         return "\n".join(lines)
 
     def program(self):
-        """One that is let by."""
-        while True:
+        """One that is let by; most of those that are made are."""
+        for trial in range(300):
             program = read(self.text())
             try:
                 return look(program)
             except BadProgram:
                 continue
+        raise AssertionError("none of the programs made was let by")
 
     def events(self, many=6, ticks=25):
         told, tick = [], 0
