@@ -153,6 +153,7 @@ class RoundsTests(unittest.TestCase):
 
     def test_signals_in_any_round(self):
         frame = Rounds(ROWS, 3, 3)
+        self.one_round(frame)
         frame.over()
         for signal in SIGNALS:
             self.assertEqual(frame.meets(signal), "out")

@@ -480,6 +480,23 @@ class StrikeTests(MachineCase):
         self.steps(machine, ("left", 1, 1), ("ring", 10, "b"))
         self.ends(machine, ("value", 0))
 
+    def test_a_held_strike_keeps_its_target(self):
+        lines = ("limit 9", "limit 8", "do", "group g", "wait 1", "end", "last", "ring a", "end", "late", "ring b", "wait 2",
+                 "end", "late", "ring c", "end")
+        for place in ("halt", "clean"):
+            machine = machine_of(*lines)
+            self.steps(machine, ("limit", 1, 1, 9), ("limit", 2, 2, 8), ("did", 3), ("group", 4, 3), ("wait", 5, 1))
+            machine.mark(2, "late")
+            machine.strike()
+            self.steps(machine, ("halt", 4, 3, ()))
+            if place == "halt":
+                machine.mark(1, "late")
+            machine.joined(())
+            self.steps(machine, ("left", 4, 3), ("clean", 3))
+            machine.mark(1, "late")
+            self.steps(machine, ("ring", 8, "a"), ("late", 2, 2), ("ring", 11, "b"), ("late", 1, 1), ("ring", 15, "c"))
+            self.ends(machine, ("value", 0))
+
     def test_faults_take_the_place_of_a_held_strike_and_the_next_waiting_row_is_struck_again(self):
         machine = machine_of("limit 9", "try", "group g", "wait 1", "end", "but lost", "ring a", "wait 2", "end",
                              "late", "ring b", "end")

@@ -1122,6 +1122,105 @@ end""",
 1 0 caught 16 lost,torn / - / -
 1 0 send 24 post :lost / - / -
 1 0 ended 0 value 0 / - / -"""),
+    ("who asks is served ahead of the marks that come by the same end",
+     """errand bad
+  wait 1
+  raise lost
+end
+errand main
+  group g
+    begin a bad in g
+    ask a x
+    send post x
+    wait 1
+    ring z
+  end
+end""",
+     [], [], ([], [], []),
+     """0 0 group 6 1 / - / -
+0 0 begin 7 a bad 1 0 / - / 1
+0 1 wait 2 1 / - / -
+0 0 ask 8 a x / - / -
+1 clock woke 1 / - / 1
+1 1 raise 3 lost / - / -
+1 1 ended 0 faults lost / 0 1 off / 0
+1 0 send 9 post :lost / - / -
+1 0 halt 6 1 - / - / -
+1 0 left 6 1 / - / -
+1 0 ended 0 faults lost / - / -"""),
+    ("an errand with a limit of its own in a group that is called off",
+     """errand run
+  keep
+    wait 9
+  end
+  wait 1
+end
+errand main
+  group g
+    off g
+    begin a run in g within 3
+  end
+end""",
+     [], [], ([], [], []),
+     """0 0 group 8 1 / - / -
+0 0 off 9 1 / 0 1 off / -
+0 0 begin 10 a run 1 3 / 1 0 off / 1
+0 1 did 2 / - / -
+0 0 halt 8 1 - / - / -
+0 1 wait 3 9 / - / -
+3 clock late 1 0 / - / -
+9 clock woke 1 / - / 1
+9 1 ended 0 off / - / 0
+9 0 left 8 1 / - / -
+9 0 ended 0 value 0 / - / -"""),
+    ("a held strike goes on to its own target, though an outer scope was marked meanwhile",
+     """errand run
+  keep
+    wait 5
+  end
+end
+errand main
+  limit 4
+    limit 2
+      group g
+        begin a run in g
+        do
+          hear none
+        last
+          wait 1
+        end
+      end
+    late
+      ring b
+      wait 1
+    end
+  late
+    ring c
+  end
+end""",
+     [], [], ([], [], []),
+     """0 0 limit 7 1 4 / - / -
+0 0 limit 8 2 2 / - / -
+0 0 group 9 3 / - / -
+0 0 begin 10 a run 3 0 / - / 1
+0 1 did 2 / - / -
+0 0 did 11 / - / -
+0 1 wait 3 5 / - / -
+0 0 hear 12 none / - / -
+2 clock late 0 2 / 0 2 late / 0
+2 0 clean 11 / - / -
+2 0 wait 14 1 / - / -
+3 clock woke 0 / - / 0
+3 0 halt 9 3 - / 0 3 off 1 0 off / -
+4 clock late 0 1 / 0 1 late / -
+5 clock woke 1 / - / 1
+5 1 ended 0 value 0 / - / 0
+5 0 left 9 3 / - / -
+5 0 late 8 2 / - / -
+5 0 ring 18 b / - / -
+5 0 late 7 1 / - / -
+5 0 ring 22 c / - / -
+5 0 ended 0 value 0 / - / -"""),
 )
 
 
